@@ -206,6 +206,30 @@ func TestInv(t *testing.T) {
 	}
 }
 
+// TestInvMany: P4.2, ordinary numbers, and such as take few or many steps of
+// Euclid's: powers of 2 and what is beside them, below p, too, and their inverses.
+func TestInvMany(t *testing.T) {
+	s := rand.New(rand.NewSource(6))
+	var all []api.Fp
+	for bits := range uint(382) {
+		for d := int64(-1); d <= 1; d++ {
+			n := plus(power(bits), d)
+			all = append(all, rest(n), rest(new(big.Int).Neg(n)), rest(new(big.Int).Rsh(prime(), bits)))
+		}
+	}
+	for n := range int64(300) {
+		all = append(all, rest(big.NewInt(n)), rest(big.NewInt(-n)))
+	}
+	for range 3000 {
+		all = append(all, someNumber(s), someElement(s))
+	}
+	for _, a := range all {
+		back := inverse(a)
+		check(t, "Inv", fp.Inv(a), back, a)
+		check(t, "Inv", fp.Inv(back), fp.Clean(a), back)
+	}
+}
+
 // TestPow: P4.2.
 func TestPow(t *testing.T) {
 	all := edges()
